@@ -1,0 +1,1 @@
+"""Asifforever: states drawn as if their system had run for ever."""

@@ -1,0 +1,150 @@
+"""The form of the package: where the interface's names are defined, and rules of the language that can be counted."""
+
+import ast
+import builtins
+import inspect
+import os
+import unittest
+from importlib import import_module
+
+HERE = os.path.dirname(os.path.abspath(__file__))
+PACKAGE = os.path.join(os.path.dirname(HERE), "asifforever")
+
+INTERFACE = {
+    "systems": {
+        "System": "many moves", "led": "system row state", "led_all": "system row", "lot_behind": "system row",
+        "share_of": "system row", "is_spread": "many thing", "spread_behind": "system spread depth", "steps": "system",
+        "system_text": "system", "read_system": "text"},
+    "steady": {
+        "closed_lots": "system", "rounds_of": "system lot", "steady_spreads": "system", "is_steady": "system thing",
+        "tree_weight": "system state", "by_trees": "system"},
+}
+
+ALLOWED = (
+    "len range enumerate zip min max sum abs sorted reversed int str bool bytes list tuple dict set isinstance ord "
+    "repr any all divmod pow getattr hasattr setattr iter next map type Exception ValueError TypeError KeyError "
+    "IndexError LookupError ZeroDivisionError NotImplementedError NotImplemented super property staticmethod "
+    "classmethod").split()
+BARRED = (
+    "register mro elements open input law with_traceback add_note breakpoint compile copyright credits delattr dir "
+    "eval exec exit gc globals help id locals os quit sys vars typing enum Enum Generic Protocol ABC namedtuple "
+    "dataclass overload contextmanager").split()
+LIBRARY = {
+    "math": ("gcd", "lcm", "isqrt", "comb", "perm", "factorial"),
+    "heapq": ("heappush", "heappop", "heapify", "heapreplace", "heappushpop"),
+    "itertools": (
+        "product", "combinations", "permutations", "chain", "accumulate", "pairwise", "islice", "zip_longest"),
+    "collections": ("defaultdict", "deque"),
+}
+MODULE_LEVEL = (ast.Import, ast.ImportFrom, ast.FunctionDef, ast.ClassDef, ast.Assign, ast.Expr)
+NOT_USED = (ast.AsyncFunctionDef, ast.Await, ast.Global, ast.Import, ast.Div, ast.Set)
+
+
+def files():
+    """The names of the package's files with their texts."""
+    found = []
+    for name in sorted(os.listdir(PACKAGE)):
+        if name != "__pycache__":
+            with open(os.path.join(PACKAGE, name), encoding="utf-8") as file:
+                found.append((name, file.read()))
+    return found
+
+
+def trees():
+    """The names of the package's files with what they are parsed to."""
+    return [(name, ast.parse(text)) for name, text in files()]
+
+
+def bound_names(tree):
+    """All names that a file binds anywhere."""
+    for node in ast.walk(tree):
+        if isinstance(node, ast.Name) and isinstance(node.ctx, ast.Store):
+            yield node.id
+        elif isinstance(node, ast.arg):
+            yield node.arg
+        elif isinstance(node, (ast.FunctionDef, ast.ClassDef)):
+            yield node.name
+        elif isinstance(node, ast.alias):
+            yield node.asname or node.name
+
+
+class InterfaceTest(unittest.TestCase):
+    def test_names_are_defined_where_they_stand_with_their_arguments(self):
+        for module, names in INTERFACE.items():
+            for name, arguments in names.items():
+                with self.subTest(f"{module}.{name}"):
+                    thing = getattr(import_module("asifforever." + module), name)
+                    self.assertEqual(thing.__module__, "asifforever." + module)
+                    self.assertEqual(list(inspect.signature(thing).parameters), arguments.split())
+
+
+class FormTest(unittest.TestCase):
+    def test_files(self):
+        for name, _ in files():
+            self.assertRegex(name, r"^[a-z_0-9]+[.]py$")
+
+    def test_signs_and_sizes(self):
+        for name, text in files():
+            with self.subTest(name):
+                self.assertTrue(all(sign == "\n" or " " <= sign <= "~" for sign in text))
+                self.assertLessEqual(len(text.splitlines()), 399)
+                self.assertLessEqual(max(len(line) for line in text.splitlines()), 120)
+        for name, tree in trees():
+            for node in ast.walk(tree):
+                if isinstance(node, ast.FunctionDef):
+                    self.assertLessEqual(node.end_lineno - node.lineno + 1, 40, f"{name}: {node.name}")
+
+    def test_imports(self):
+        for name, tree in trees():
+            own = [node for node in ast.walk(tree) if isinstance(node, ast.ImportFrom)]
+            for node in own:
+                with self.subTest(f"{name}:{node.lineno}"):
+                    self.assertIn(node, tree.body)
+                    self.assertEqual(node.level, 0)
+                    for alias in node.names:
+                        self.assertIsNone(alias.asname)
+                        if node.module in LIBRARY:
+                            self.assertIn(alias.name, LIBRARY[node.module])
+                        else:
+                            self.assertTrue(node.module.startswith("asifforever."))
+                            found = getattr(import_module(node.module), alias.name)
+                            self.assertEqual(getattr(found, "__module__", node.module), node.module)
+
+    def test_statements(self):
+        for name, tree in trees():
+            for node in tree.body:
+                self.assertIsInstance(node, MODULE_LEVEL, f"{name}:{node.lineno}")
+            for node in ast.walk(tree):
+                self.assertNotIsInstance(node, NOT_USED, f"{name}: {ast.dump(node)[:80]}")
+                if isinstance(node, (ast.FunctionDef, ast.ClassDef)):
+                    self.assertTrue(ast.get_docstring(node) or node.name.startswith("__"), node.name)
+                if isinstance(node, ast.Constant):
+                    self.assertNotIsInstance(node.value, (float, complex))
+
+    def test_generator_expressions(self):
+        # Classes of the package have __eq__, so any, all, sum and the like take lists.
+        for name, tree in trees():
+            for node in ast.walk(tree):
+                self.assertNotIsInstance(node, ast.GeneratorExp, name)
+
+    def test_names(self):
+        for name, tree in trees():
+            bound = set(bound_names(tree))
+            for node in ast.walk(tree):
+                if isinstance(node, ast.Name) and isinstance(node.ctx, ast.Load) and node.id not in bound:
+                    self.assertIn(node.id, ALLOWED, f"{name}:{node.lineno}")
+            for word in bound - {"__init__", "__eq__"}:
+                self.assertFalse(hasattr(builtins, word) or word in BARRED, f"{name}: {word}")
+
+    def test_names_are_used(self):
+        for name, text in files():
+            for node in ast.walk(ast.parse(text)):
+                if isinstance(node, ast.ImportFrom):
+                    for alias in node.names:
+                        used = [other for other in ast.walk(ast.parse(text))
+                                if isinstance(other, ast.Name) and other.id == alias.name]
+                        self.assertTrue(used, f"{name}: {alias.name}")
+
+
+if __name__ == "__main__":
+    unittest.main()
