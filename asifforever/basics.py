@@ -18,6 +18,28 @@ def is_row_below(bound, thing):
     return isinstance(thing, tuple) and all([is_within(0, bound - 1, part) for part in thing])
 
 
+def is_pair_below(bound, thing):
+    """Whether a thing is a pair of numbers below a bound."""
+    return isinstance(thing, tuple) and len(thing) == 2 and is_row_below(bound, thing)
+
+
+def is_lot_of_pairs(bound, thing):
+    """Whether a thing is a lot, perhaps empty, of pairs of numbers below a bound."""
+    if not isinstance(thing, tuple) or not all([is_pair_below(bound, part) for part in thing]):
+        return False
+    return all([one < other for one, other in zip(thing, thing[1:])])
+
+
+def is_lot_of_couples(bound, thing):
+    """Whether a thing is a lot of pairs of numbers below a bound, the lesser first."""
+    return is_lot_of_pairs(bound, thing) and all([one < other for one, other in thing])
+
+
+def lot_of(things):
+    """The lot of the numbers that are among things."""
+    return tuple(sorted(set(things)))
+
+
 def is_fraction(thing):
     """Whether a thing is a fraction: (top, bottom) in lowest terms, bottom above 0."""
     if not isinstance(thing, tuple) or len(thing) != 2:
@@ -45,6 +67,13 @@ def common_bottom(fractions):
 def tops_over(fractions, bottom):
     """The tops that fractions have over a bottom that all of theirs divide."""
     return [top * (bottom // part) for top, part in fractions]
+
+
+def gap_between(one, other):
+    """Half the sum of the sizes of the differences of so many fractions and as many others."""
+    bottom = common_bottom(one + other)
+    sizes = [abs(top - less) for top, less in zip(tops_over(one, bottom), tops_over(other, bottom))]
+    return fraction(sum(sizes), 2 * bottom)
 
 
 def are_one_together(fractions):

@@ -2,6 +2,9 @@
 
 import unittest
 
+from asifforever.drawing import drawn
+from asifforever.merging import bias, merging_row, told_shares, undecided
+from asifforever.once import once
 from asifforever.steady import by_trees, steady_spreads
 from asifforever.systems import System, steps, system_text
 
@@ -17,6 +20,16 @@ class ExamplesTest(unittest.TestCase):
     def test_e02(self):
         self.assertEqual(steady_spreads(self.t), [((3, 4), (1, 4))])
         self.assertEqual(by_trees(self.t), ((3, 4), (1, 4)))
+
+    def test_e03(self):
+        self.assertEqual(merging_row(self.t), (1,))
+        self.assertEqual(told_shares(self.t, 2), ((2, 3), (2, 9)))
+        self.assertEqual(undecided(self.t, 2), (1, 9))
+        self.assertEqual(bias(self.t, 1), (1, 4))
+
+    def test_e04(self):
+        self.assertEqual(drawn(self.t, (0, 1, 0), "one"), ("told", 1, 2))
+        self.assertEqual(once(self.t, 1, (1, 0, 1)), ("told", 1, 3))
 
 
 if __name__ == "__main__":

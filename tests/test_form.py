@@ -18,6 +18,20 @@ INTERFACE = {
     "steady": {
         "closed_lots": "system", "rounds_of": "system lot", "steady_spreads": "system", "is_steady": "system thing",
         "tree_weight": "system state", "by_trees": "system"},
+    "merging": {
+        "merging_row": "system", "is_book": "system thing", "apart": "system", "lots_behind": "system depth",
+        "told_shares": "system depth", "hasty": "system depth", "undecided": "system depth", "bias": "system depth",
+        "depth_for": "system share"},
+    "drawing": {
+        "drawn": "system coins plan", "Drawer": "system", "drawer_text": "drawer", "drawer_of": "system text",
+        "is_drawn": "system thing"},
+    "once": {"once": "system length row", "once_shares": "system length blocks"},
+}
+
+# The methods that the interface lists, with their arguments; each stands in the body of its class.
+METHODS = {
+    ("systems", "System"): {"__eq__": "other"},
+    ("drawing", "Drawer"): {"read": "move", "state": "", "depth": "", "lot": "", "coins": "", "copy": ""},
 }
 
 ALLOWED = (
@@ -76,6 +90,14 @@ class InterfaceTest(unittest.TestCase):
                     thing = getattr(import_module("asifforever." + module), name)
                     self.assertEqual(thing.__module__, "asifforever." + module)
                     self.assertEqual(list(inspect.signature(thing).parameters), arguments.split())
+
+    def test_methods_stand_in_their_classes(self):
+        for (module, name), methods in METHODS.items():
+            made = getattr(import_module("asifforever." + module), name)
+            for method, arguments in methods.items():
+                with self.subTest(f"{module}.{name}.{method}"):
+                    found = list(inspect.signature(vars(made)[method]).parameters)
+                    self.assertEqual(found, ["self"] + arguments.split())
 
 
 class FormTest(unittest.TestCase):

@@ -2,6 +2,7 @@
 
 import random
 from fractions import Fraction
+from itertools import product
 
 from asifforever import errors
 from asifforever.systems import System
@@ -106,3 +107,42 @@ def long_system():
         moves.append((pair(part), stay))
         moves.append((pair(Fraction(1, 12) - part), turn))
     return System(12, tuple(moves))
+
+
+def led_by_hand(system, row):
+    """What all states are led to by moves one behind another."""
+    ends = []
+    for state in range(system.many):
+        for move in row:
+            state = system.moves[move][1][state]
+        ends.append(state)
+    return ends
+
+
+def lot_by_hand(system, row):
+    """The lot of what all states are led to."""
+    return tuple(sorted(set(led_by_hand(system, row))))
+
+
+def all_rows(system, length):
+    """All rows of so many moves, ascending."""
+    return list(product(range(len(system.moves)), repeat=length))
+
+
+def row_worth(system, row):
+    """The share of a row as a Fraction."""
+    share = Fraction(1)
+    for move in row:
+        share *= worth(system.moves[move][0])
+    return share
+
+
+def any_row(chance, system, length):
+    """A row of so many moves, drawn."""
+    return tuple(chance.randrange(len(system.moves)) for _ in range(length))
+
+
+def slow(many):
+    """So many states that merge by rows of (many - 1) ** 2 moves and no shorter ones, as Cerny found."""
+    turn = tuple((k + 1) % many for k in range(many))
+    return System(many, (((1, 2), turn), ((1, 2), (min(1, many - 1),) + tuple(range(1, many)))))
