@@ -92,8 +92,9 @@ class Drawer:
     def copy(self):
         """Another Drawer that has read the same, and goes on apart."""
         other = Drawer(self._system)
-        for move in self._coins:
-            other.read(move)
+        other._coins = self._coins
+        other._leads = self._leads
+        other._depth = self._depth
         return other
 
 

@@ -2,9 +2,12 @@
 
 import unittest
 
+from asifforever.bits import move_by_bits
 from asifforever.drawing import drawn
 from asifforever.merging import bias, merging_row, told_shares, undecided
+from asifforever.models import fitting, sets_apart
 from asifforever.once import once
+from asifforever.renewals import cells
 from asifforever.steady import by_trees, steady_spreads
 from asifforever.systems import System, steps, system_text
 
@@ -12,6 +15,7 @@ from asifforever.systems import System, steps, system_text
 class ExamplesTest(unittest.TestCase):
     def setUp(self):
         self.t = System(2, (((1, 3), (1, 0)), ((2, 3), (0, 0))))
+        self.m = sets_apart(2, ((0, 1),), 1)
 
     def test_e01(self):
         self.assertEqual(steps(self.t), (((2, 3), (1, 3)), ((1, 1), (0, 1))))
@@ -30,6 +34,11 @@ class ExamplesTest(unittest.TestCase):
     def test_e04(self):
         self.assertEqual(drawn(self.t, (0, 1, 0), "one"), ("told", 1, 2))
         self.assertEqual(once(self.t, 1, (1, 0, 1)), ("told", 1, 3))
+        self.assertEqual(move_by_bits(self.t, (0, 0, 1)), (0, 2))
+
+    def test_e05(self):
+        self.assertEqual(fitting(self.m), [(0, 0), (0, 1), (1, 0)])
+        self.assertEqual(cells(self.m, 0), (((0, 1), (1, 2)), ((1, 2), (1, 1))))
 
 
 if __name__ == "__main__":

@@ -26,11 +26,26 @@ INTERFACE = {
         "drawn": "system coins plan", "Drawer": "system", "drawer_text": "drawer", "drawer_of": "system text",
         "is_drawn": "system thing"},
     "once": {"once": "system length row", "once_shares": "system length blocks"},
+    "bits": {
+        "move_by_bits": "system bits", "told_by_bits": "system many", "open_by_bits": "system many",
+        "drawn_by_bits": "system bits plan"},
+    "orders": {
+        "is_order": "system thing", "breaking": "system order", "ends": "system order",
+        "least_order": "system low high", "merging_by_ends": "system order",
+        "drawn_by_ends": "system order coins plan"},
+    "models": {
+        "Model": "many levels weights ties", "weight": "model picture", "fitting": "model",
+        "spins": "many pairs same other", "sets_apart": "many pairs number", "colourings": "many pairs values",
+        "stacks": "rows columns most"},
+    "renewals": {
+        "local_shares": "model picture place", "renewed": "model picture renewal", "cells": "model place",
+        "system_of": "model"},
 }
 
 # The methods that the interface lists, with their arguments; each stands in the body of its class.
 METHODS = {
     ("systems", "System"): {"__eq__": "other"},
+    ("models", "Model"): {"__eq__": "other"},
     ("drawing", "Drawer"): {"read": "move", "state": "", "depth": "", "lot": "", "coins": "", "copy": ""},
 }
 

@@ -2,9 +2,11 @@
 
 import random
 from fractions import Fraction
-from itertools import product
+from itertools import combinations, product
 
 from asifforever import errors
+from asifforever.drawing import Drawer
+from asifforever.models import Model
 from asifforever.systems import System
 
 TWO = System(2, (((1, 3), (1, 0)), ((2, 3), (0, 0))))
@@ -12,6 +14,8 @@ TWO = System(2, (((1, 3), (1, 0)), ((2, 3), (0, 0))))
 TWO_LOTS = System(4, (((1, 2), (1, 2, 1, 3)), ((1, 2), (3, 2, 1, 3))))
 # 0 and 1 are led to one another, to and fro: rounds 2, no steady end is reached.
 SWAP = System(2, (((1, 1), (1, 0)),))
+# Two places of three values, the second of which weighs nothing at place 1; tied so that not both are 2.
+MODEL = Model(2, 3, ((1, 2, 3), (4, 0, 6)), ((0, 1, ((1, 1, 1), (1, 5, 2), (7, 1, 0))),))
 
 
 def nested(depth, make):
@@ -33,6 +37,7 @@ def odd_things():
         (k for k in ()), {}.keys(), {}.values(), {}.items(),
         object(), object, int, tuple, type, len, "".join, lambda: 0, property(), staticmethod(len), ValueError("0"),
         KeyError(0), errors.BadSystem("many"), errors.NoRow(), errors.NoRow, TWO, System, random, Fraction,
+        MODEL, Model, Drawer(TWO), Drawer(TWO).lot,
         nested(40, lambda thing: (thing,)), nested(40, lambda thing: [thing]), nested(40, lambda thing: {0: thing}),
         nested(40, lambda thing: (thing, thing)[:1] + (0,)),
         tuple([()] * 20000), [0] * 20000, (0,) * 20000, {k: 0 for k in range(20000)}, ((0, 1),) * 20000,
@@ -146,3 +151,52 @@ def slow(many):
     """So many states that merge by rows of (many - 1) ** 2 moves and no shorter ones, as Cerny found."""
     turn = tuple((k + 1) % many for k in range(many))
     return System(many, (((1, 2), turn), ((1, 2), (min(1, many - 1),) + tuple(range(1, many)))))
+
+
+def any_ties(chance, many, levels, count, numbers):
+    """Up to so many ties, drawn, none of them at a place that has four, of tables of these numbers."""
+    pairs = []
+    for pair_of in chance.sample(list(combinations(range(many), 2)), min(count, many * (many - 1) // 2)):
+        if all(sum(place in other for other in pairs) < 4 for place in pair_of):
+            pairs.append(pair_of)
+    return tuple(
+        (one, other, tuple(tuple(chance.choice(numbers) for _ in range(levels)) for _ in range(levels)))
+        for one, other in sorted(pairs))
+
+
+def any_model(chance, many, levels, count, numbers):
+    """A model with up to so many ties, its weights and tables of these numbers."""
+    weights = tuple(tuple(chance.choice(numbers) for _ in range(levels)) for _ in range(many))
+    return Model(many, levels, weights, any_ties(chance, many, levels, count, numbers))
+
+
+def any_models(seed, count):
+    """So many models of few pictures."""
+    chance = random.Random(seed)
+    found = []
+    for _ in range(count):
+        many = chance.randint(1, 5)
+        levels = chance.randint(1, 4 if many < 5 else 2)
+        numbers = chance.choice(((1,), (0, 1), (0, 1, 1, 2), (1, 2, 3, 1000), (0, 5, 7)))
+        found.append(any_model(chance, many, levels, chance.randint(0, 8), numbers))
+    return found
+
+
+def all_pictures(model):
+    """All pictures of a model, ascending."""
+    return list(product(range(model.levels), repeat=model.many))
+
+
+def weight_by_hand(model, picture):
+    """The weight of a picture, factor by factor."""
+    factors = [model.weights[place][value] for place, value in enumerate(picture)]
+    factors += [table[picture[one]][picture[other]] for one, other, table in model.ties]
+    found = 1
+    for factor in factors:
+        found *= factor
+    return found
+
+
+def fitting_by_hand(model):
+    """All pictures that fit, of all there are."""
+    return [picture for picture in all_pictures(model) if weight_by_hand(model, picture) > 0]
