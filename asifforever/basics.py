@@ -23,11 +23,21 @@ def is_pair_below(bound, thing):
     return isinstance(thing, tuple) and len(thing) == 2 and is_row_below(bound, thing)
 
 
+def is_ascending(things):
+    """Whether each of a tuple of things is less than the next one."""
+    return all([one < other for one, other in zip(things, things[1:])])
+
+
+def is_lot_below(bound, thing):
+    """Whether a thing is a lot, perhaps empty, of numbers below a bound."""
+    return is_row_below(bound, thing) and is_ascending(thing)
+
+
 def is_lot_of_pairs(bound, thing):
     """Whether a thing is a lot, perhaps empty, of pairs of numbers below a bound."""
     if not isinstance(thing, tuple) or not all([is_pair_below(bound, part) for part in thing]):
         return False
-    return all([one < other for one, other in zip(thing, thing[1:])])
+    return is_ascending(thing)
 
 
 def is_lot_of_couples(bound, thing):
@@ -38,6 +48,11 @@ def is_lot_of_couples(bound, thing):
 def lot_of(things):
     """The lot of the numbers that are among things."""
     return tuple(sorted(set(things)))
+
+
+def with_part(parts, at, part):
+    """The tuple of the same parts, but this one at a place."""
+    return parts[:at] + (part,) + parts[at + 1:]
 
 
 def is_fraction(thing):
@@ -100,6 +115,12 @@ def number_of_text(text):
     if text.startswith("0") and text != "0":
         return None
     return int(text)
+
+
+def number_behind(word, line):
+    """The number that a line tells behind a word and a blank, None if it has not this form."""
+    begun, _, rest = line.partition(" ")
+    return number_of_text(rest) if begun == word else None
 
 
 def numbers_of_text(text):

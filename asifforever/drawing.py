@@ -22,6 +22,21 @@ def looks(plan, many):
     return found
 
 
+def first_look(plan, many, is_told):
+    """The first look of a plan, by so many coins, that tells, the last one if none does; is_told judges a look."""
+    found = looks(plan, many)
+    low = 0
+    high = len(found) - 1
+    # What is told once stays told with further coins, so half of the looks may be left out at each step.
+    while low < high:
+        middle = (low + high) // 2
+        if is_told(found[middle]):
+            high = middle
+        else:
+            low = middle + 1
+    return found[low]
+
+
 def led_ahead(system, move, leads):
     """What all states are led to, if a move is done just ahead of what leads them so."""
     _, first = system.moves[move]

@@ -1,6 +1,6 @@
 """Renewals: one place gets a value by its local shares; a model as a System of such moves."""
 
-from asifforever.basics import common_bottom, fraction, is_fraction, is_within, tops_over
+from asifforever.basics import common_bottom, fraction, is_fraction, is_within, tops_over, with_part
 from asifforever.errors import NoPicture, NoPlace, NoRenewal, NothingFits, TooMany
 from asifforever.models import first_fitting, is_picture, weight
 from asifforever.systems import System
@@ -52,15 +52,19 @@ def value_at(parts, share):
     return [together * bottom > top * whole for together in sums(parts)].index(True)
 
 
+def led_on(model, picture, renewal):
+    """The picture to which a renewal leads one that fits."""
+    place, share = renewal
+    return with_part(picture, place, value_at(local_weights(model, picture, place), share))
+
+
 def renewed(model, picture, renewal):
     """The picture that fits with, at the renewal's place, the value to which it leads."""
     if not is_fitting(model, picture):
         raise NoPicture()
     if not is_renewal(model, renewal):
         raise NoRenewal()
-    place, share = renewal
-    value = value_at(local_weights(model, picture, place), share)
-    return picture[:place] + (value,) + picture[place + 1:]
+    return led_on(model, picture, renewal)
 
 
 def tied_places(model, place):
@@ -68,12 +72,16 @@ def tied_places(model, place):
     return [one + other - place for one, other, _ in model.ties if place in (one, other)]
 
 
-def pictures_around(model, place):
-    """Pictures with all values of the places tied to one, each 0 elsewhere; they need not fit."""
+def whole_cover(model):
+    """The cover of all values of all places."""
+    return (tuple(range(model.levels)),) * model.many
+
+
+def pictures_around(model, cover, place):
+    """Pictures with all values out of a cover at the places tied to one, each 0 elsewhere; they need not fit."""
     found = [(0,) * model.many]
     for tied in tied_places(model, place):
-        found = [
-            picture[:tied] + (value,) + picture[tied + 1:] for picture in found for value in range(model.levels)]
+        found = [with_part(picture, tied, value) for picture in found for value in cover[tied]]
     return found
 
 
@@ -82,7 +90,7 @@ def cells(model, place):
     if not is_within(0, model.many - 1, place):
         raise NoPlace()
     cuts = [(0, 1), (1, 1)]
-    for picture in pictures_around(model, place):
+    for picture in pictures_around(model, whole_cover(model), place):
         together = sums(local_weights(model, picture, place))
         if together[-1] > 0:
             cuts.extend([fraction(top, together[-1]) for top in together])

@@ -2,7 +2,7 @@
 
 from asifforever.basics import (
     are_one_together, common_bottom, fraction, fraction_of_text, fraction_text, is_fraction, is_row_below, is_within,
-    number_of_text, numbers_of_text, tops_over)
+    number_behind, numbers_of_text, tops_over)
 from asifforever.errors import BadLine, BadSystem, NoNumber, NoRow, NoSpread, NoState
 
 
@@ -125,11 +125,6 @@ def system_text(system):
     return "".join([line + "\n" for line in lines])
 
 
-def states_of_line(line):
-    """The number that a first line tells, None if it has not its form."""
-    return number_of_text(line.removeprefix("states ")) if line.startswith("states ") else None
-
-
 def move_of_line(line):
     """The pair (share, leads) that a line tells, None if it has not its form."""
     before, _, behind = line.partition(": ")
@@ -144,7 +139,7 @@ def read_system(text):
         raise BadLine(0)
     lines = text.split("\n")
     rest = lines.pop()
-    told = [states_of_line(line) if number == 0 else move_of_line(line) for number, line in enumerate(lines)]
+    told = [number_behind("states", line) if number == 0 else move_of_line(line) for number, line in enumerate(lines)]
     if None in told:
         raise BadLine(told.index(None) + 1)
     if rest != "" or lines == []:

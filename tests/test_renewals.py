@@ -3,13 +3,13 @@
 import random
 import unittest
 from fractions import Fraction
-from itertools import product
 
 from asifforever.errors import NoPicture, NoPlace, NoRenewal, NothingFits, TooMany
 from asifforever.models import Model, colourings, fitting, sets_apart, spins, stacks
 from asifforever.renewals import cells, local_shares, renewed, system_of
 from asifforever.steady import is_steady, steady_spreads
 from asifforever.systems import System
+from byhand import added_by_hand, cells_by_hand, local_by_hand, renewed_by_hand, shares_to_try
 from things import (
     MODEL, all_pictures, any_model, any_models, fitting_by_hand, odd_things, pair, weight_by_hand, with_one_changed,
     worth)
@@ -18,53 +18,6 @@ EVEN = sets_apart(2, ((0, 1),), 1)
 ALONE = Model(1, 3, ((1, 0, 3),), ())
 ZERO = (0, 1)
 WHOLE = (1, 1)
-
-
-def local_by_hand(model, values, place):
-    """The local weights at a place, by the dict of the values of places."""
-    found = []
-    for value in range(model.levels):
-        part = model.weights[place][value]
-        for one, other, table in model.ties:
-            if one == place:
-                part *= table[value][values[other]]
-            if other == place:
-                part *= table[values[one]][value]
-        found.append(part)
-    return found
-
-
-def added_by_hand(parts):
-    """The added shares, up to each value."""
-    return [Fraction(sum(parts[:value + 1]), sum(parts)) for value in range(len(parts))]
-
-
-def renewed_by_hand(model, picture, place, u):
-    """The picture with the least value whose added shares come to more than u."""
-    added = added_by_hand(local_by_hand(model, dict(enumerate(picture)), place))
-    value = min(value for value in range(model.levels) if added[value] > u)
-    return tuple(value if at == place else old for at, old in enumerate(picture))
-
-
-def cells_by_hand(model, place):
-    """The stretches between all added shares for all values of the tied places."""
-    tied = sorted({one + other - place for one, other, _ in model.ties if place in (one, other)})
-    cuts = {Fraction(0), Fraction(1)}
-    for values in product(range(model.levels), repeat=len(tied)):
-        parts = local_by_hand(model, dict(zip(tied, values)), place)
-        if sum(parts) > 0:
-            cuts |= set(added_by_hand(parts))
-    cuts = sorted(cuts)
-    return tuple((pair(low), pair(high)) for low, high in zip(cuts, cuts[1:]))
-
-
-def shares_to_try(model, place):
-    """Shares at, just ahead of and behind all ends of cells, and between them."""
-    found = set()
-    for low, high in cells_by_hand(model, place):
-        low, high = worth(low), worth(high)
-        found |= {low, (low + high) / 2, low + (high - low) / 10 ** 9, high - (high - low) / 10 ** 9}
-    return sorted(found)
 
 
 class LocalSharesTest(unittest.TestCase):
