@@ -3,13 +3,16 @@
 import unittest
 
 from asifforever.bits import move_by_bits
+from asifforever.distances import far_apart
 from asifforever.drawing import drawn
 from asifforever.merging import bias, merging_row, told_shares, undecided
 from asifforever.models import fitting, sets_apart
 from asifforever.once import once
 from asifforever.renewals import cells
+from asifforever.rising import drawn_picture, flips_for
 from asifforever.steady import by_trees, steady_spreads
 from asifforever.systems import System, steps, system_text
+from asifforever.tables import total
 
 
 class ExamplesTest(unittest.TestCase):
@@ -39,6 +42,15 @@ class ExamplesTest(unittest.TestCase):
     def test_e05(self):
         self.assertEqual(fitting(self.m), [(0, 0), (0, 1), (1, 0)])
         self.assertEqual(cells(self.m, 0), (((0, 1), (1, 2)), ((1, 2), (1, 1))))
+        self.assertEqual(flips_for(self.m), (False, True))
+
+    def test_e06(self):
+        found = drawn_picture(self.m, (False, True), ((0, (0, 1)), (1, (0, 1))), "one")
+        self.assertEqual(found, ("told", (0, 0), 2))
+
+    def test_e07(self):
+        self.assertEqual(total(self.m), 3)
+        self.assertEqual(far_apart(self.t, 1), (1, 3))
 
 
 if __name__ == "__main__":

@@ -40,6 +40,19 @@ INTERFACE = {
     "renewals": {
         "local_shares": "model picture place", "renewed": "model picture renewal", "cells": "model place",
         "system_of": "model"},
+    "rising": {
+        "is_below": "model flips one other", "rises": "model flips", "is_drawn_picture": "model flips thing",
+        "flips_for": "model", "ends_of": "model flips", "drawn_picture": "model flips coins plan"},
+    "covers": {"covered": "model cover renewal", "drawn_by_cover": "model coins plan"},
+    "tables": {
+        "total": "model", "total_by": "model order", "share_of_picture": "model picture", "shares_at": "model place",
+        "joint": "model places", "likeliest": "model", "held_at": "model place value"},
+    "distances": {
+        "distance": "many one other", "far_apart": "system depth", "far_from_steady": "system depth",
+        "settles": "system", "depth_within": "system share"},
+    "sampling": {"Sampler": "model flips"},
+    "modeltexts": {"model_text": "model", "read_model": "text"},
+    "desk": {"Desk": ""},
 }
 
 # The methods that the interface lists, with their arguments; each stands in the body of its class.
@@ -47,6 +60,10 @@ METHODS = {
     ("systems", "System"): {"__eq__": "other"},
     ("models", "Model"): {"__eq__": "other"},
     ("drawing", "Drawer"): {"read": "move", "state": "", "depth": "", "lot": "", "coins": "", "copy": ""},
+    ("sampling", "Sampler"): {
+        "read": "renewal", "picture": "", "pair": "", "coins": "", "weigh": "place weights", "tie": "one other table",
+        "undo": "", "model": "", "touched": "", "led_again": "", "copy": ""},
+    ("desk", "Desk"): {"tell": "line"},
 }
 
 ALLOWED = (
@@ -172,6 +189,27 @@ class FormTest(unittest.TestCase):
                     self.assertIn(node.id, ALLOWED, f"{name}:{node.lineno}")
             for word in bound - {"__init__", "__eq__"}:
                 self.assertFalse(hasattr(builtins, word) or word in BARRED, f"{name}: {word}")
+
+    def test_imports_and_classes_lend_their_names_to_nothing_else(self):
+        for name, tree in trees():
+            taken = [alias.name for node in tree.body if isinstance(node, ast.ImportFrom) for alias in node.names]
+            taken += [node.name for node in tree.body if isinstance(node, ast.ClassDef)]
+            self.assertEqual(len(taken), len(set(taken)), name)
+            functions = [node for node in tree.body if isinstance(node, ast.FunctionDef)]
+            methods = [node for made in tree.body if isinstance(made, ast.ClassDef) for node in made.body]
+            for function in functions + [node for node in methods if isinstance(node, ast.FunctionDef)]:
+                inside = [word for word in bound_names(function) if word != function.name]
+                self.assertFalse(set(inside) & set(taken), f"{name}: {function.name}")
+
+    def test_no_two_files_import_from_each_other(self):
+        imports = {}
+        for name, tree in trees():
+            own = [node.module for node in tree.body if isinstance(node, ast.ImportFrom)]
+            imports["asifforever." + name.removesuffix(".py")] = [word for word in own if word not in LIBRARY]
+        while imports:
+            free = [name for name, behind in imports.items() if not any(word in imports for word in behind)]
+            self.assertTrue(free, sorted(imports))
+            imports = {name: behind for name, behind in imports.items() if name not in free}
 
     def test_names_are_used(self):
         for name, text in files():

@@ -5,8 +5,10 @@ from fractions import Fraction
 from itertools import combinations, product
 
 from asifforever import errors
+from asifforever.desk import Desk
 from asifforever.drawing import Drawer
 from asifforever.models import Model
+from asifforever.sampling import Sampler
 from asifforever.systems import System
 
 TWO = System(2, (((1, 3), (1, 0)), ((2, 3), (0, 0))))
@@ -37,7 +39,7 @@ def odd_things():
         (k for k in ()), {}.keys(), {}.values(), {}.items(),
         object(), object, int, tuple, type, len, "".join, lambda: 0, property(), staticmethod(len), ValueError("0"),
         KeyError(0), errors.BadSystem("many"), errors.NoRow(), errors.NoRow, TWO, System, random, Fraction,
-        MODEL, Model, Drawer(TWO), Drawer(TWO).lot,
+        MODEL, Model, Drawer(TWO), Drawer(TWO).lot, Sampler(Model(1, 1, ((1,),), ()), (False,)), Desk(), Desk().tell,
         nested(40, lambda thing: (thing,)), nested(40, lambda thing: [thing]), nested(40, lambda thing: {0: thing}),
         nested(40, lambda thing: (thing, thing)[:1] + (0,)),
         tuple([()] * 20000), [0] * 20000, (0,) * 20000, {k: 0 for k in range(20000)}, ((0, 1),) * 20000,
